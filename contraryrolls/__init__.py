@@ -1,0 +1,1 @@
+"""Contraryrolls: rolls that show what is so, and rolls that show what is not."""

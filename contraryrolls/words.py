@@ -1,0 +1,41 @@
+"""What integers, names and numbers in texts are: shared by the other files."""
+
+LONGEST_NAME = 8
+MOST_FIGURES = 9
+
+
+def is_integer(value):
+    """Whether value is an integer: True and False are none."""
+    return isinstance(value, int) and not isinstance(value, bool)
+
+
+def is_between(value, low, high):
+    """Whether value is an integer from low to high."""
+    return is_integer(value) and low <= value <= high
+
+
+def is_name(value):
+    """Whether value is a string of one to eight letters a to z."""
+    if not isinstance(value, str) or len(value) > LONGEST_NAME:
+        return False
+    return value.isascii() and value.isalpha() and value.islower()
+
+
+def is_ascending(values):
+    """Whether a tuple or list of values that can be compared is sorted, none of them twice."""
+    return all([low < high for low, high in zip(values, values[1:])])
+
+
+def are_ascending_names(value, most):
+    """Whether value is an ascending tuple of at most so many names."""
+    if not isinstance(value, tuple) or len(value) > most:
+        return False
+    return all([is_name(name) for name in value]) and is_ascending(value)
+
+
+def number_in(word):
+    """The number that a word of a text is as Python writes it; -1 if it is none, or too long."""
+    if len(word) > MOST_FIGURES or not (word.isascii() and word.isdigit()):
+        return -1
+    number = int(word)
+    return number if str(number) == word else -1

@@ -1,0 +1,36 @@
+import unittest
+
+from contraryrolls.words import are_ascending_names, is_between, is_integer, is_name, number_in
+from tests.kinds import values
+
+
+class Words(unittest.TestCase):
+    def test_integers(self):
+        for value in values():
+            self.assertIs(is_integer(value), type(value) is int)
+            self.assertIs(is_between(value, 1, 59), type(value) is int and 1 <= value <= 59)
+        self.assertEqual([is_between(value, 2, 4) for value in range(1, 6)], [False, True, True, True, False])
+
+    def test_names(self):
+        for value in values() + ['abcdefgh', 'z']:
+            right = isinstance(value, str) and value in ('a', 'red', 'abcdefgh', 'z')
+            self.assertIs(is_name(value), right)
+        for value in ['', 'A', 'aB', 'a1', 'a b', 'a_', 'abcdefghi', '\u00e9', '\u00aa', 'a\n']:
+            self.assertIs(is_name(value), False)
+
+    def test_ascending_names(self):
+        for value in [(), ('a',), ('a', 'b'), ('a', 'aa')]:
+            self.assertIs(are_ascending_names(value, 2), True)
+        for value in [('b', 'a'), ('a', 'a'), ('a', 'b', 'c'), ['a'], ('a', 1), None, 'ab']:
+            self.assertIs(are_ascending_names(value, 2), False)
+
+    def test_numbers(self):
+        for number in [0, 1, 10, 60, 999999999]:
+            self.assertEqual(number_in(str(number)), number)
+        for word in ['', '00', '01', '+1', '-1', '-0', '1.0', '1_0', ' 1', '1 ', 'a', '1000000000', '0000000001', '9' * 5000,
+                     '\u00b2', '\u0663']:
+            self.assertEqual(number_in(word), -1)
+
+
+if __name__ == '__main__':
+    unittest.main()
