@@ -1,4 +1,4 @@
-"""What integers, names and numbers in texts are: shared by the other files."""
+"""What integers, names, rolls and numbers in texts are, and powers: shared by the other files."""
 
 LONGEST_NAME = 8
 MOST_FIGURES = 9
@@ -39,3 +39,18 @@ def number_in(word):
         return -1
     number = int(word)
     return number if str(number) == word else -1
+
+
+def is_roll(value):
+    """Whether value is a tuple of integers from 0 on."""
+    if not isinstance(value, tuple):
+        return False
+    return all([is_integer(sign) and sign >= 0 for sign in value])
+
+
+def powers(base, most):
+    """The list of the powers of base, from the one with exponent 0 to the one with exponent most."""
+    told = [1]
+    for _ in range(most):
+        told.append(told[-1] * base)
+    return told

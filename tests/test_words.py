@@ -1,6 +1,6 @@
 import unittest
 
-from contraryrolls.words import are_ascending_names, is_between, is_integer, is_name, number_in
+from contraryrolls.words import are_ascending_names, is_between, is_integer, is_name, is_roll, number_in, powers
 from tests.kinds import values
 
 
@@ -30,6 +30,15 @@ class Words(unittest.TestCase):
         for word in ['', '00', '01', '+1', '-1', '-0', '1.0', '1_0', ' 1', '1 ', 'a', '1000000000', '0000000001', '9' * 5000,
                      '\u00b2', '\u0663']:
             self.assertEqual(number_in(word), -1)
+
+    def test_rolls(self):
+        for value in [(), (0,), (0, 1), (10 ** 39, 7, 0)]:
+            self.assertIs(is_roll(value), True)
+        for value in [[], [0], (-1,), (0, -1), (True,), (0, '1'), None, '0', 0, ((0,),)]:
+            self.assertIs(is_roll(value), False)
+
+    def test_powers(self):
+        self.assertEqual([powers(2, 0), powers(3, 4), powers(60, 2)], [[1], [1, 3, 9, 27, 81], [1, 60, 3600]])
 
 
 if __name__ == '__main__':

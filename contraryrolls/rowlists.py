@@ -1,0 +1,83 @@
+"""Making the texts of readers: shared by the files that make readers of readers, or of nothing."""
+
+from contraryrolls.readers import FORMS
+
+LETTERS = "abcdefghijklmnopqrstuvwxyz"
+
+
+class RowList:
+    """Rows that are put together one after the other, with labels where rows go on to.
+
+    What stands for the number of a row in them is the label of that row, which may be put
+    later; labels are strings or tuples.
+    """
+
+    def __init__(self):
+        self.rows = []
+        self.labels = {}
+
+    def label(self, *names):
+        """The row that is put next has these labels."""
+        for name in names:
+            self.labels[name] = len(self.rows)
+
+    def put(self, *parts):
+        """Put a row of these parts behind all others."""
+        self.rows.append(parts)
+
+    def told(self):
+        """The list of the rows, with the numbers of rows instead of labels."""
+        return [exchanged(row, "L", self.labels) for row in self.rows]
+
+    def put_bounded(self, row, room, refused):
+        """Put a row that is refused as in this room, also where the room of the made reader is greater."""
+        if row[0] == "up":
+            self.put("edge", room, row[1], refused)
+        self.put(*row)
+        if row[0] == "set":
+            behind = ("behind", len(self.rows))
+            self.put("within", room, row[1], behind)
+            self.put("go", refused)
+            self.label(behind)
+
+
+def exchanged(row, letter, table):
+    """The row with each part of this letter's kind exchanged as the table tells; what it lacks stays."""
+    parts = [table.get(part, part) if kind == letter else part for kind, part in zip(FORMS[row[0]], row[1:])]
+    return (row[0], *parts)
+
+
+def parts_of(row, letter):
+    """The parts of this letter's kind in a row, in their order."""
+    return [part for kind, part in zip(FORMS[row[0]], row[1:]) if kind == letter]
+
+
+def reader_text(room, boxes, rows):
+    """The text of the reader with this room, these boxes and rows."""
+    lines = [f"room {room}", " ".join(["boxes", *boxes])]
+    lines.extend([" ".join([str(part) for part in row]) for row in rows])
+    return "\n".join(lines)
+
+
+def fresh_names(many, taken):
+    """So many unlike names, none of them among those that are taken."""
+    held = {name: True for name in taken}
+    told = []
+    at = 0
+    while len(told) < many:
+        name = counted_name(at)
+        if name not in held:
+            told.append(name)
+        at += 1
+    return told
+
+
+def counted_name(number):
+    """The name with this number: a, b, .., z, aa, ab and so on."""
+    name = ""
+    number += 1
+    while number > 0:
+        number -= 1
+        name = LETTERS[number % 26] + name
+        number = number // 26
+    return name
