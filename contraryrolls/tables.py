@@ -82,6 +82,11 @@ def table_of(saying, orders, web):
     return done[0]
 
 
+def turned_rows(rows):
+    """The rows of figures that have the columns of these rows."""
+    return ["".join([row[at] for row in rows]) for at in range(len(rows))]
+
+
 class Tables:
     """Makes tables for one web."""
 
@@ -105,7 +110,7 @@ class Tables:
         if one == other:
             return self.of_place(size, one, [row[at] for at, row in enumerate(rows)])
         if one > other:
-            return self.of_pair(size, other, one, ["".join([row[at] for row in rows]) for at in range(len(rows))])
+            return self.of_pair(size, other, one, turned_rows(rows))
         blocks = []
         for row in rows:
             block = "".join([figure * self.sizes[size - 1 - other] for figure in row])
@@ -154,9 +159,14 @@ class Tables:
             table = table & other if order.word == "and" else table | other
         return self.full(order.size) ^ table if order.word == "not" else table
 
+    def figures_of(self, table, size):
+        """The figures of a table, those at its beginning, too, that are 0."""
+        figures = f"{table:b}"
+        return figures.zfill(self.sizes[size])
+
     def columns(self, table, size, many):
         """So many tables: what this one tells of each of the last so many tuples of places."""
-        figures = f"{table:b}".zfill(self.sizes[size])
+        figures = self.figures_of(table, size)
         return [int(figures[at::many], 2) for at in range(many)]
 
     def counted(self, order, inner):

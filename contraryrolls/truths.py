@@ -45,7 +45,8 @@ def rows_of(saying, web):
     for _ in saying.names:
         rows = [(*row, place) for row in rows for place in range(web.places)]
     table = table_of(saying, orders_of(saying), web)
-    figures = f"{table:b}".zfill(len(rows))
+    figures = f"{table:b}"
+    figures = figures.zfill(len(rows))
     return tuple([row for row, figure in zip(rows, figures) if figure == "1"])
 
 

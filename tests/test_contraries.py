@@ -137,6 +137,18 @@ class Contrary(unittest.TestCase):
                     self.assertIs(lets_web(contrary(reader), web), not marked)
         self.assertEqual(told(written, reader, Web('places 8\nmark m')), (TooMany, 24))
 
+    def test_counting_as_far_as_it_goes(self):
+        """All standings are come to, and their number is as near to the room of the contrary as it can be."""
+        web = Web('places 2')
+        for rows, boxes, room in (('take 3 a | take 3 b | go 0', 'a b', 3), ('take 2 a | take 2 b | go 0', 'a b', 2),
+                                  ('take 1 a | take 1 b | take 1 c | either 0 | either 1 | either 2 | go 0', 'a b c', 1),
+                                  ('take 3 a | either 0 | go 0', 'a', 3), ('either 1 | go 2 | go 0', '', 1)):
+            reader = reader_of(rows, boxes, room)
+            self.assertEqual(standings_many(reader, web), size_of(reader, web))
+            with mock.patch('contraryrolls.rolls.MOST_SIZE', 200):
+                roll = written(reader, web)
+            self.assertEqual(play(contrary(reader), web, roll), ('let', len(roll)))
+
     def test_bent_rolls(self):
         draw = random.Random(10)
         tried = 0
