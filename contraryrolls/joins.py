@@ -3,7 +3,7 @@
 from contraryrolls.errors import BadNames, BadNumber, BadPairs, TooGreat
 from contraryrolls.readers import MOST_ROOM, Reader
 from contraryrolls.rowlists import exchanged, fresh_names, reader_text, RowList
-from contraryrolls.words import is_between, is_name
+from contraryrolls.words import are_unlike_names, is_between, is_name
 
 MOST_BOXES_TOGETHER = 110
 MOST_ROWS_TOGETHER = 4900
@@ -15,13 +15,6 @@ def renamed(reader, names):
         raise BadNames(names)
     table = {box: name for box, name in zip(reader.boxes, names)}
     return Reader(reader_text(reader.room, names, [exchanged(row, "B", table) for row in reader.rows]))
-
-
-def are_unlike_names(value):
-    """Whether value is a tuple of names, none of them twice."""
-    if not isinstance(value, tuple) or not all([is_name(name) for name in value]):
-        return False
-    return len(set(value)) == len(value)
 
 
 def named_anew(reader, pairs):

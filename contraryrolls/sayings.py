@@ -2,7 +2,7 @@
 
 from contraryrolls.errors import BadNames, BadSaying, TooGreat
 from contraryrolls.tokens import read_tokens, text_of, tokens_of, tree_of
-from contraryrolls.words import is_name
+from contraryrolls.words import are_unlike_names
 
 MOST_FREE = 4
 MOST_FORMS = 400
@@ -16,7 +16,7 @@ class Saying:
     """The saying with this text and these free names; raises BadNames, BadSaying, TooGreat."""
 
     def __init__(self, text, names=()):
-        if not are_free_names(names):
+        if not are_unlike_names(names) or len(names) > MOST_FREE:
             raise BadNames(names)
         tokens = tokens_of(text)
         if tokens is None:
@@ -38,13 +38,6 @@ class Saying:
 
     def __len__(self):
         return len(self._words)
-
-
-def are_free_names(value):
-    """Whether value is a tuple of at most four names, none of them twice."""
-    if not isinstance(value, tuple) or len(value) > MOST_FREE:
-        return False
-    return all([is_name(name) for name in value]) and len(set(value)) == len(value)
 
 
 def inner_forms(form):

@@ -33,6 +33,13 @@ def are_ascending_names(value, most):
     return all([is_name(name) for name in value]) and is_ascending(value)
 
 
+def are_unlike_names(value):
+    """Whether value is a tuple of names, none of them twice."""
+    if not isinstance(value, tuple) or not all([is_name(name) for name in value]):
+        return False
+    return len(set(value)) == len(value)
+
+
 def number_in(word):
     """The number that a word of a text is as Python writes it; -1 if it is none, or too long."""
     if len(word) > MOST_FIGURES or not (word.isascii() and word.isdigit()):

@@ -205,6 +205,14 @@ class Language(unittest.TestCase):
                 if name in ('zip', 'enumerate', 'reversed', 'range', 'map'):
                     self.assertNotIsInstance(above[node], (ast.Return, ast.List, ast.Tuple, ast.Dict), place)
 
+    def test_stars_in_calls(self):
+        """Behind a star in a call stands a name, or an attribute of one."""
+        for path, _, tree in modules():
+            for node in ast.walk(tree):
+                for part in node.args if isinstance(node, ast.Call) else []:
+                    if isinstance(part, ast.Starred):
+                        self.assertIsInstance(part.value, (ast.Name, ast.Attribute), f'{path.name}:{node.lineno}')
+
     def test_no_escapes_but_the_plain_ones(self):
         for path, source, _ in modules():
             for token in tokenize.generate_tokens(io.StringIO(source).readline):

@@ -1,6 +1,7 @@
 import unittest
 
-from contraryrolls.words import are_ascending_names, is_between, is_integer, is_name, is_roll, number_in, powers
+from contraryrolls.words import (
+    are_ascending_names, are_unlike_names, is_between, is_integer, is_name, is_roll, number_in, powers)
 from tests.kinds import values
 
 
@@ -30,6 +31,12 @@ class Words(unittest.TestCase):
         for word in ['', '00', '01', '+1', '-1', '-0', '1.0', '1_0', ' 1', '1 ', 'a', '1000000000', '0000000001', '9' * 5000,
                      '\u00b2', '\u0663']:
             self.assertEqual(number_in(word), -1)
+
+    def test_unlike_names(self):
+        for value in [(), ('a',), ('b', 'a'), ('a', 'aa', 'abcdefgh')]:
+            self.assertIs(are_unlike_names(value), True)
+        for value in [('a', 'a'), ['a'], 'a', None, ('A',), ('a', 1), ('a', ['b']), (('a',),), ('a', '')]:
+            self.assertIs(are_unlike_names(value), False)
 
     def test_rolls(self):
         for value in [(), (0,), (0, 1), (10 ** 39, 7, 0)]:
