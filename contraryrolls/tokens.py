@@ -5,13 +5,13 @@ from contraryrolls.words import is_name
 
 DIGITS = "123456789"
 
-# What stands behind the word of each form. A is any name, B one that is bound at its place or
+# What stands behind the word of each form. X is any name, B one that is bound at its place or
 # free, N one that is neither and that the form binds, K a digit, S a saying, T and V one in
 # which what the form binds is bound, V in a way; M none or more sayings up to the last bracket.
 # O and C are brackets. W is what stands behind the first name of a way.
 FORMS = {
-    "arrow": "ABBC",
-    "mark": "ABC",
+    "arrow": "XBBC",
+    "mark": "XBC",
     "same": "BBC",
     "less": "BBC",
     "first": "BC",
@@ -98,7 +98,7 @@ class Reading:
 
     def fits(self, goal, token):
         """Whether the token is what this letter asks for."""
-        if goal == "A":
+        if goal == "X":
             return is_name(token)
         if goal == "B":
             return token in self.bound

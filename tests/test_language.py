@@ -34,6 +34,11 @@ BARRED = set((
     'register mro elements open input law version_info with_traceback add_note typing enum Enum namedtuple Generic '
     'Protocol ABC dataclass contextmanager eval exec globals locals vars dir id help compile chr frozenset bytes '
     'print').split())
+# Words that stand nowhere in a file but in comments and docstrings, and those that are no part of a longer one either.
+NO_WORDS = set((
+    'type typing typing_extensions enum Enum IntEnum StrEnum Flag IntFlag Generic Protocol ABC ABCMeta namedtuple '
+    'NamedTuple TypedDict TYPE_CHECKING abstractmethod').split())
+NO_PARTS = ('dataclass', 'overload', 'contextmanager')
 NO_ATTRIBUTES = set((
     'items keys values pop update append clear extend insert remove reverse setdefault sort args encode decode hex '
     'fromhex format is_integer to_bytes from_bytes bit_count as_integer_ratio conjugate').split())
@@ -62,6 +67,29 @@ def bound_names(tree):
             yield node.name, node
 
 
+def told_tokens(source):
+    """The tokens of a file, without comments and docstrings."""
+    docstrings = set()
+    for node in ast.walk(ast.parse(source)):
+        if isinstance(node, (ast.Module, ast.ClassDef, ast.FunctionDef)) and ast.get_docstring(node, clean=False):
+            docstrings.add((node.body[0].lineno, node.body[0].col_offset))
+    for token in tokenize.generate_tokens(io.StringIO(source).readline):
+        if token.type != tokenize.COMMENT and not (token.type == tokenize.STRING and token.start in docstrings):
+            yield token
+
+
+def barred_words(source):
+    """(line, word) for each word of a file that may stand in comments and docstrings alone."""
+    told = []
+    for token in told_tokens(source):
+        for word in re.findall('[A-Za-z_0-9]+', token.string):
+            # In a string `type` may stand.
+            barred = word in NO_WORDS and (word != 'type' or token.type == tokenize.NAME)
+            if barred or [part for part in NO_PARTS if part in word]:
+                told.append((token.start[0], word))
+    return told
+
+
 class Language(unittest.TestCase):
     def test_files(self):
         for path in PACKAGE.rglob('*'):
@@ -82,6 +110,19 @@ class Language(unittest.TestCase):
             for node in ast.walk(tree):
                 if isinstance(node, ast.FunctionDef):
                     self.assertLessEqual(node.end_lineno - node.lineno + 1, 40, node.name)
+
+    def test_words_that_stand_nowhere(self):
+        for path, source, _ in modules():
+            self.assertEqual(barred_words(source), [], path.name)
+
+    def test_words_that_stand_nowhere_are_seen(self):
+        for word in sorted(NO_WORDS | set(NO_PARTS)):
+            self.assertEqual(barred_words(f'{word} = 1'), [(1, word)])
+            self.assertEqual(barred_words(f'"""{word}"""\n\n\ndef f():\n    """{word}"""  # {word}\n'), [])
+            for text in (f'"{word}"', f"'a {word}(b'", f'f"a {{b}}{word}"', f'{{"{word}": 2}}', f'"""a\n{word}"""'):
+                self.assertEqual(barred_words(f'a = {text}'), [] if word == 'type' else [(1, word)], text)
+        self.assertEqual(barred_words('a = "ABBC ABCs my_enum types"'), [])
+        self.assertEqual(barred_words('a = "an_overload"\ndataclasses = 1'), [(1, 'an_overload'), (2, 'dataclasses')])
 
     def test_imports(self):
         leads = {}
