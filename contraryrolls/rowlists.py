@@ -15,11 +15,18 @@ class RowList:
     def __init__(self):
         self.rows = []
         self.labels = {}
+        self.number = 0
 
     def label(self, *names):
         """The row that is put next has these labels."""
         for name in names:
             self.labels[name] = len(self.rows)
+
+    def fresh_labels(self, many):
+        """The list of so many labels that nothing has yet."""
+        first = self.number
+        self.number += many
+        return [("label", number) for number in range(first, self.number)]
 
     def put(self, *parts):
         """Put a row of these parts behind all others."""
@@ -81,3 +88,37 @@ def counted_name(number):
         name = LETTERS[number % 26] + name
         number = number // 26
     return name
+
+
+class BoxList:
+    """The boxes of a reader that is made: they are used for some time, and then again by others.
+
+    None of them has one of the names that are held.
+    """
+
+    def __init__(self, held):
+        self.held = {name: True for name in held}
+        self.names = []
+        self.unused = []
+        self.number = 0
+
+    def use(self, many):
+        """The list of so many boxes, which nobody else uses until they are left."""
+        told = []
+        while len(told) < many:
+            told.append(self.unused.pop() if self.unused else self.fresh_box())
+        return told
+
+    def leave(self, boxes):
+        """These boxes are not used any more, and have 0 again."""
+        self.unused.extend(list(boxes)[::-1])
+
+    def fresh_box(self):
+        """A box that has not been used before."""
+        name = counted_name(self.number)
+        self.number += 1
+        while name in self.held:
+            name = counted_name(self.number)
+            self.number += 1
+        self.names.append(name)
+        return name

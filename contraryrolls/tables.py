@@ -16,10 +16,11 @@ class Order:
 
     size is how many names are bound or free at its place; word its word, name that of its mark
     or arrow; at where its names stand among those; many how many forms are in it, its K, or
-    how many names a bracket of it has.
+    how many names a bracket of it has; inner the numbers of the orders for the forms in it.
     """
 
     def __init__(self, form, scope):
+        self.inner = []
         self.word = form[0]
         self.size = len(scope)
         self.name = form[1] if form[0] in ("mark", "arrow") else ""
@@ -54,32 +55,42 @@ def names_bound(form):
 
 def orders_of(saying):
     """The list of the orders for a saying, each form behind all forms in it."""
-    waiting = [(saying.tree, saying.names)]
+    waiting = [(saying.tree, saying.names, None)]
     orders = []
     while waiting:
-        form, scope = waiting.pop()
-        orders.append(Order(form, scope))
+        form, scope, outer = waiting.pop()
+        order = Order(form, scope)
+        if outer is not None:
+            outer.inner.append(len(orders))
+        orders.append(order)
         inside = scope + names_bound(form)
-        waiting.extend([(inner, inside) for inner in inner_forms(form)])
+        waiting.extend([(inner, inside, order) for inner in inner_forms(form)])
+    for order in orders:
+        # The numbers, as those of the forms, go the other way about in the end.
+        order.inner = [len(orders) - 1 - at for at in order.inner[::-1]]
     return orders[::-1]
 
 
 def table_of(saying, orders, web):
     """The table of the places for the free names of a saying for which it is so."""
+    return tables_of(saying, orders, web)[-1]
+
+
+def tables_of(saying, orders, web):
+    """The list of the tables for all orders of a saying."""
     tables = Tables(web, saying.width)
     done = []
     for order in orders:
+        inner = [done[at] for at in order.inner]
         if order.word in ("and", "or", "not"):
-            inner = done[len(done) - order.many:]
-            del done[len(done) - order.many:]
             done.append(tables.joined(order, inner))
         elif order.word in BINDING or order.word == "many":
-            done.append(tables.counted(order, done.pop()))
+            done.append(tables.counted(order, inner[0]))
         elif order.word == "way":
-            done.append(tables.led(order, done.pop()))
+            done.append(tables.led(order, inner[0]))
         else:
-            done.append(tables.asked(order))
-    return done[0]
+            done.append(tables.tested(order))
+    return done
 
 
 def turned_rows(rows):
@@ -117,18 +128,18 @@ class Tables:
             blocks.append(block * self.sizes[other - one - 1])
         return int("".join(blocks) * self.sizes[one], 2)
 
-    def asked(self, order):
+    def tested(self, order):
         """The table of a form in which no other one is."""
         key = (order.word, order.name, order.size, *order.at)
         if key not in self.kept:
-            rows = self.figures(order.word, order.name)
+            rows = self.figures_for(order.word, order.name)
             if len(order.at) == 1:
                 self.kept[key] = self.of_place(order.size, order.at[0], rows[0])
             else:
                 self.kept[key] = self.of_pair(order.size, order.at[0], order.at[1], rows)
         return self.kept[key]
 
-    def figures(self, word, name):
+    def figures_for(self, word, name):
         """For each place, or only once, the figures of all places for which it is so."""
         key = (word, name)
         if key not in self.rows:

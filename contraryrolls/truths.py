@@ -4,7 +4,7 @@ from contraryrolls.errors import BadPlaces, NotClosed
 from contraryrolls.tables import orders_of, table_of
 from contraryrolls.webrows import web_numbers
 from contraryrolls.webs import numbered_web
-from contraryrolls.words import is_between
+from contraryrolls.words import is_between, number_of, powers
 
 
 def holds(saying, web):
@@ -23,11 +23,8 @@ def true_at(saying, web, places):
     """Whether the saying is so of the web if its free names stand for these places."""
     if not are_places_of(places, web, len(saying.names)):
         raise BadPlaces(places)
-    at = 0
-    many = 1
-    for place in places:
-        at = at * web.places + place
-        many *= web.places
+    many = powers(web.places, len(places))[-1]
+    at = number_of(places, web.places)
     # The figure of the first tuple is the highest one.
     return (table_of(saying, orders_of(saying), web) >> (many - 1 - at)) & 1 == 1
 

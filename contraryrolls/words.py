@@ -61,3 +61,11 @@ def powers(base, most):
     for _ in range(most):
         told.append(told[-1] * base)
     return told
+
+
+def number_of(figures, base):
+    """The number with these figures at this base, the highest one first."""
+    number = 0
+    for figure in figures:
+        number = number * base + figure
+    return number
