@@ -9,7 +9,7 @@ MOST_ROWS = 40000
 MOST_NUMBER = 999999999
 
 # What stands behind the word of a row: B is a box, N any name, K a number, Q a number up to
-# the room, L the number of a row.
+# the room, L the number of a row, and M, at the end, none or more boxes.
 FORMS = {
     "take": "QB",
     "either": "L",
@@ -27,6 +27,9 @@ FORMS = {
     "let": "",
     "refuse": "",
 }
+
+# What pile readers have besides.
+PILE_FORMS = {"call": "LM", "back": ""}
 
 
 class Reader:
@@ -95,11 +98,20 @@ def row_lines(lines, forms, room, boxes):
 
 def row_line(words, forms, held, greatest):
     """The row with these words, its numbers as integers; None if it is not as told."""
-    letters = forms.get(words[0])
-    if letters is None or len(letters) != len(words) - 1:
+    if words[0] not in forms:
+        return None
+    letters = letters_for(forms[words[0]], len(words) - 1)
+    if len(letters) != len(words) - 1:
         return None
     parts = [row_part(letter, word, held, greatest) for letter, word in zip(letters, words[1:])]
     return None if None in parts else (words[0], *parts)
+
+
+def letters_for(letters, many):
+    """The letters of a form, one for each of so many parts if there can be as many."""
+    if not letters.endswith("M"):
+        return letters
+    return letters[:-1] + "B" * (many + 1 - len(letters))
 
 
 def row_part(letter, word, held, greatest):

@@ -1,6 +1,6 @@
 """Making the texts of readers: shared by the files that make readers of readers, or of nothing."""
 
-from contraryrolls.readers import FORMS
+from contraryrolls.readers import FORMS, letters_for, PILE_FORMS
 
 LETTERS = "abcdefghijklmnopqrstuvwxyz"
 
@@ -50,13 +50,19 @@ class RowList:
 
 def exchanged(row, letter, table):
     """The row with each part of this letter's kind exchanged as the table tells; what it lacks stays."""
-    parts = [table.get(part, part) if kind == letter else part for kind, part in zip(FORMS[row[0]], row[1:])]
+    parts = [table.get(part, part) if kind == letter else part for kind, part in zip(kinds_of(row), row[1:])]
     return (row[0], *parts)
 
 
 def parts_of(row, letter):
     """The parts of this letter's kind in a row, in their order."""
-    return [part for kind, part in zip(FORMS[row[0]], row[1:]) if kind == letter]
+    return [part for kind, part in zip(kinds_of(row), row[1:]) if kind == letter]
+
+
+def kinds_of(row):
+    """The letters for the parts of a row of a reader or a pile reader."""
+    letters = PILE_FORMS[row[0]] if row[0] in PILE_FORMS else FORMS[row[0]]
+    return letters_for(letters, len(row) - 1)
 
 
 def reader_text(room, boxes, rows):

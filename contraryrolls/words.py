@@ -69,3 +69,28 @@ def number_of(figures, base):
     for figure in figures:
         number = number * base + figure
     return number
+
+
+def place_in(values, value):
+    """How many of these ascending values are below this one."""
+    low = 0
+    high = len(values)
+    while low < high:
+        half = (low + high) // 2
+        if values[half] < value:
+            low = half + 1
+        else:
+            high = half
+    return low
+
+
+def placed(names, name):
+    """An ascending tuple of names with one more, which is not in it."""
+    at = place_in(names, name)
+    return (*names[:at], name, *names[at:])
+
+
+def without(names, name):
+    """An ascending tuple of names without one of them."""
+    at = place_in(names, name)
+    return (*names[:at], *names[at + 1:])
