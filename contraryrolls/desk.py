@@ -210,8 +210,8 @@ def read_desk(text):
     for line, number in enumerate([stand, *[number for _, number in noted]], start=1):
         if number > many:
             raise BadDesk(line)
-    # Words note the number of deeds that stand, so these are undone one by one.
-    for number, word in sorted([(number, word) for word, number in noted], reverse=True):
+    # Words note how many deeds stand, so the desk goes to where so many do, by ascending numbers.
+    for number, word in sorted([(number, word) for word, number in noted]):
         many = go_to(desk, many, number)
         desk.note(word)
     go_to(desk, many, stand)

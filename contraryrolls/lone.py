@@ -5,7 +5,7 @@ from contraryrolls.readers import Reader
 from contraryrolls.roads import Roads
 from contraryrolls.rowlists import reader_text, RowList
 from contraryrolls.webs import has_arrow
-from contraryrolls.words import is_between, is_name
+from contraryrolls.words import is_integer, is_name
 
 WORDS = ("way", "noway")
 
@@ -56,21 +56,17 @@ def shows_lone(web, arrow, value):
         return False
     if roads.two is None:
         return value == ("lone",)
-    if value[0] != "two" or len(value) != 4 or not is_between(value[1], 0, web.places - 1):
+    if value[0] != "two" or len(value) != 4 or not is_integer(value[1]) or value[1] not in roads.many:
         return False
-    place = value[1]
-    if place not in roads.many:
-        return False
-    steps = roads.many[place]
-    shown = [is_road(web, arrow, road) and len(road) == steps + 1 and road[-1] == place for road in value[2:]]
+    ends = (0, value[1])
+    steps = roads.many[value[1]]
+    shown = [is_road(web, arrow, road) and (road[0], road[-1]) == ends and len(road) == steps + 1 for road in value[2:]]
     return all(shown) and value[2] != value[3]
 
 
 def is_road(web, arrow, value):
-    """Whether value is a road by these arrows."""
-    if not isinstance(value, tuple) or len(value) == 0:
-        return False
-    if not all([is_between(place, 0, web.places - 1) for place in value]) or value[0] != 0:
+    """Whether value is a tuple of one place or more, with an arrow from each one to the next."""
+    if not isinstance(value, tuple) or not all([is_integer(place) for place in value]) or len(value) == 0:
         return False
     return all([has_arrow(web, arrow, one, other) for one, other in zip(value, value[1:])])
 
@@ -78,25 +74,24 @@ def is_road(web, arrow, value):
 def lone_reader(arrow, word):
     """The reader that lets a web by one roll alone if it is lone, and a road leads to its last place, or none does.
 
-    It counts which places are within so many steps, and how many steps lead to them together.
-    So the roll has to tell all of them, and for each a road that is not longer than the
-    shortest one; and which roll this is hangs on nothing else in a lone web.
+    It counts how many places are within so many steps, and how many steps lead to them together.
+    The roll has to tell as many places, with roads that have no more steps together: so just
+    those that are within the steps, and a shortest road to each. In a lone web there is only one.
     """
     check_name(arrow)
     check_word(word)
     made = RowList()
     made.put("up", "many")
+    made.put("up", "more")
     made.label("round")
-    made.put("put", "more", "many")
-    made.put("put", "longer", "sum")
     made.put("up", "most")
     put_places(made, arrow)
-    put_answer(made)
-    put_next(made)
-    made.label("let" if word == "way" else "refused", "come")
-    made.put("let" if word == "way" else "refuse")
-    made.label("refused" if word == "way" else "let", "grown")
-    made.put("refuse" if word == "way" else "let")
+    put_answer(made, "let" if word == "way" else "refused")
+    put_next(made, "refused" if word == "way" else "let")
+    made.label("let")
+    made.put("let")
+    made.label("refused")
+    made.put("refuse")
     return Reader(reader_text(2, BOXES, made.told()))
 
 
@@ -104,7 +99,6 @@ def put_places(made, arrow):
     """Put the rows that go through all places, the roll telling which are within the steps, and a road to each."""
     made.label("place")
     made.put("either", "behind")
-    made.put("same", "count", "many", "refused")
     made.put("up", "count")
     made.label("walk")
     made.put("same", "walked", "other", "there")
@@ -134,18 +128,13 @@ def put_places(made, arrow):
     made.put("go", "behind")
 
 
-def put_answer(made):
-    """Put the rows that tell of what is asked for whether it is within one step more, and new."""
+def put_answer(made, come):
+    """Put the rows that count what is asked for if it is new within one step more; on to come if it is the last."""
     made.label("all")
-    made.put("same", "count", "many", "right")
-    made.put("go", "refused")
-    made.label("right")
-    made.put("same", "total", "sum", "answer")
-    made.put("go", "refused")
-    made.label("answer")
+    made.put("less", "count", "many", "refused")
     made.put("is", "old", 1, "next")
     made.put("is", "led", 0, "next")
-    made.put("edge", 1, "asked", "come")
+    made.put("edge", 1, "asked", come)
     made.put("up", "more")
     made.label("adding")
     made.put("same", "added", "most", "added")
@@ -156,8 +145,8 @@ def put_answer(made):
     made.put("set", "added", 0)
 
 
-def put_next(made):
-    """Put the rows that go on to the next place that is asked for, or to the next round if there are more."""
+def put_next(made, grown):
+    """Put the rows that go on to the next place, to the next round, or to grown if there are no more than before."""
     made.label("next")
     for box in ("other", "count", "total", "led", "old"):
         made.put("set", box, 0)
@@ -166,7 +155,7 @@ def put_next(made):
     made.put("go", "place")
     made.label("last")
     made.put("set", "asked", 0)
-    made.put("same", "many", "more", "grown")
+    made.put("same", "many", "more", grown)
     made.put("put", "many", "more")
     made.put("put", "sum", "longer")
     made.put("go", "round")

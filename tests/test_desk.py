@@ -337,6 +337,7 @@ class Texts(unittest.TestCase):
             self.assertEqual(self.spoilt(3, line), (BadDesk, 3), line)
         self.assertEqual(self.spoilt(2, 'note c 1'), (BadDesk, 3))
         self.assertEqual(self.spoilt(2, 'note b 1'), (BadDesk, 3))
+        self.assertEqual(self.spoilt(3, 'note c 1', 'note b 1'), (BadDesk, 4))
         self.assertEqual(self.spoilt(6, 'mark red 1', 'note c 1'), (BadDesk, 7))
         self.assertIsNone(self.spoilt(2)[0])
 

@@ -26,6 +26,8 @@ class Halves(unittest.TestCase):
         word, steps, deepest = run_pile(READER, web, 400000)
         self.assertEqual(word, 'let' if leads(web) else 'refused', web.text)
         self.assertLessEqual(deepest, 3 + web.places.bit_length())
+        # No way is halved more often than it has to be.
+        self.assertLessEqual(deepest, 1 + (web.places - 2).bit_length())
         return steps
 
     def test_point_13(self):

@@ -127,7 +127,10 @@ class Readers(unittest.TestCase):
         for web in small_webs():
             so = web.places - 1 in plain_roads(web, 'r')
             for word in WORDS:
-                lets = LETS in Search(READERS[word], web).ends
+                search = Search(READERS[word], web)
+                lets = LETS in search.ends
+                # What cannot be right any more is refused at once.
+                self.assertLess(len(search.seen), 7000)
                 if lets or is_lone(web):
                     self.assertEqual(lets, so == (word == 'way'), web.text)
 
