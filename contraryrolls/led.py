@@ -5,7 +5,7 @@ from contraryrolls.errors import NotLed, NotSo
 from contraryrolls.formsigns import FormSigns
 from contraryrolls.ledforms import led_tokens
 from contraryrolls.ledrows import LedRows
-from contraryrolls.makings import check_made, made, sayings_of
+from contraryrolls.makings import made, sayings_of
 from contraryrolls.plays import roll_of
 from contraryrolls.sayings import inner_forms, Saying
 from contraryrolls.tokens import text_of
@@ -38,7 +38,6 @@ def led_reader(making, reader):
 
 def led_roll(making, reader, web):
     """A roll by which the led reader lets the web; raises TooGreat, NotSo."""
-    check_made(making, web)
     other = made(making, web)
     roll = roll_of(reader, other)
     if roll is None:

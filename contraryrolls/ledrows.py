@@ -82,7 +82,7 @@ class LedRows:
     def put_answer(self, key):
         """Put the rows that show whether a saying is so, and go back behind the row that asked."""
         made, saying = self.rowlist, self.sayings[key]
-        asked = self.asked[:1 if key[0] == "mark" else 2]
+        asked = self.asked[:len(saying.names) // self.wide]
         used = self.boxes.use(2 * len(asked)) if self.wide == 2 else []
         made.label(key)
         for at, box in enumerate(used[::2]):
@@ -101,9 +101,10 @@ class LedRows:
         put_form(made, self.boxes, self.sayings[key].tree, so, held)
         for box in held.values():
             made.put("set", box, 0)
-        for at, row in enumerate(self.asking[key]):
+        *rows, last = self.asking[key]
+        for at, row in enumerate(rows):
             made.put("is", self.row, at, (row, so))
-        made.put("refuse")
+        made.put("go", (last, so))
 
     def put_figures(self, asked, high, low):
         """Put the rows that count the figures of a place of the made web, and leave its box."""

@@ -70,17 +70,12 @@ def sayings_of(making):
 
 def made(making, web):
     """The web that the making makes of this one; raises TooGreat."""
-    check_made(making, web)
     base = powers(web.places, making.wide)[-1]
+    if base > MOST_PLACES:
+        raise TooGreat(MOST_PLACES)
     marks = [(name, made_places(saying, web)) for name, saying in making.marks]
     arrows = [(name, made_pairs(saying, web, base)) for name, saying in making.arrows]
     return Web(web_text(base, tuple(marks), tuple(arrows)))
-
-
-def check_made(making, web):
-    """Raise TooGreat if the made web would have too many places."""
-    if powers(web.places, making.wide)[-1] > MOST_PLACES:
-        raise TooGreat(MOST_PLACES)
 
 
 def made_places(saying, web):

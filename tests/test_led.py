@@ -237,6 +237,17 @@ class LedReaders(unittest.TestCase):
                                 rows = f'{begin} | {test} 5 | refuse | let'
                             self.check(making, reader_of(rows, 'a', room), web)
 
+    def test_what_is_no_place(self):
+        """It has no marks, and no arrows lead to it, whatever the making tells of all places."""
+        one = Making('wide 1\nmark m (x) (same x x)\narrow r (x) (y) (or (less x y) (not (less x y)))')
+        two = Making('wide 2\nmark m (x y) (not (less x x))\narrow r (x y) (u v) (and (same x x) (same v v))')
+        for making, base in ((one, 2), (two, 4)):
+            for number in (0, base - 1, base, base + 1, base ** 2 - 1):
+                for test in ('mark m a', 'arrow r a b', 'arrow r b a', 'arrow r a a'):
+                    so = self.check(making, reader_of(f'set a {number} | {test} 3 | refuse | let', 'a b', 2), Web('places 2'))
+                    self.assertEqual(so, number < base)
+                    self.check(making, reader_of(f'set a {number} | {test} 3 | let | refuse', 'a b', 2), Web('places 2'))
+
     def test_signs_at_the_borders(self):
         web = Web('places 3')
         for making, base in ((SAME, 3), (SAME_PAIRS, 9)):
@@ -276,10 +287,11 @@ class LedReaders(unittest.TestCase):
             found = led_reader(making, reader)
             self.check(making, reader, web if making is SAME else Web('places 2\nmark m 0\narrow r 0-0'))
             self.assertLessEqual(found.room, making.wide + 6)
-        asking = [f'mark m a {at + 1}' for at in range(100)]
-        reader = reader_of([*asking, 'let'], 'a')
-        self.assertEqual(led_reader(SAME, reader).room, 7)
-        self.check(SAME, reader, web)
+        for many, room in ((0, 3), (8, 3), (9, 4), (16, 4), (17, 5), (64, 6), (65, 7), (100, 7)):
+            asking = [f'mark m a {at + 1}' for at in range(many)]
+            reader = reader_of([*asking, 'take 1 b', f'arrow r a b {many + 3}', 'refuse', 'let'], 'a b')
+            self.assertEqual(led_reader(SAME, reader).room, room)
+            self.check(SAME, reader, web)
 
     def test_many_boxes(self):
         names = [f'{one}{other}' for one in 'abcdefgh' for other in 'abcdefghij'] + list('abcdefghij')
