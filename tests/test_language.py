@@ -227,6 +227,16 @@ class Language(unittest.TestCase):
                     self.assertTrue(node.attr in METHODS or node.attr in own, place)
                     self.assertNotIn(node.attr, BARRED, place)
 
+    def test_no_name_is_a_method_and_an_attribute(self):
+        methods, attributes = set(), set()
+        for _, _, tree in modules():
+            for node in ast.walk(tree):
+                if isinstance(node, ast.ClassDef):
+                    methods |= {part.name for part in node.body if isinstance(part, ast.FunctionDef)}
+                if isinstance(node, ast.Attribute) and isinstance(node.ctx, ast.Store):
+                    attributes.add(node.attr)
+        self.assertEqual(methods & attributes, set())
+
     def test_kept_sequences_and_sets(self):
         """A set that is made stands where it may; a zip and its kind is not returned or stored in a value."""
         for path, _, tree in modules():

@@ -5,7 +5,7 @@ import unittest
 from contraryrolls.courses import Course, next_standings
 from contraryrolls.errors import BadNames, BadNumber, TooMany
 from contraryrolls.readers import Reader
-from contraryrolls.rowlists import counted_name, exchanged, fresh_names, parts_of, reader_text, RowList
+from contraryrolls.rowlists import BoxList, counted_name, exchanged, fresh_names, parts_of, reader_text, RowList
 from contraryrolls.searches import DEAD, LETS, Search
 from contraryrolls.webrows import web_numbers
 from contraryrolls.webs import Web
@@ -47,6 +47,29 @@ class RowLists(unittest.TestCase):
         reader = reader_of('take 2 b | let', 'a b', 3)
         self.assertEqual(reader_text(3, reader.boxes, reader.rows), reader.text)
         self.assertEqual(Reader(reader_text(1, [], [('let',)])).text, 'room 1\nboxes\nlet')
+
+    def test_rows_of_pile_readers(self):
+        made = RowList()
+        made.label('on')
+        made.put('call', 'on', 'on', 'a')
+        made.put('back')
+        self.assertEqual(made.told(), [('call', 0, 'on', 'a'), ('back',)])
+        self.assertEqual([parts_of(('call', 0, 'a', 'b', 'a'), letter) for letter in 'LB'], [[0], ['a', 'b', 'a']])
+        self.assertEqual(parts_of(('call', 3), 'B'), [])
+
+    def test_fresh_labels(self):
+        made = RowList()
+        labels = made.fresh_labels(3) + made.fresh_labels(0) + made.fresh_labels(2)
+        self.assertEqual(len(set(labels)), 5)
+
+    def test_boxes(self):
+        """Boxes that are left are used again, ahead of others, and none has a name that is held."""
+        boxes = BoxList(['b', 'd'])
+        first, second = boxes.use(2), boxes.use(1)
+        self.assertEqual((first, second, boxes.names), (['a', 'c'], ['e'], ['a', 'c', 'e']))
+        boxes.leave(first)
+        self.assertEqual((boxes.use(1), boxes.use(2)), (['a'], ['c', 'f']))
+        self.assertEqual((boxes.use(0), boxes.names), ([], ['a', 'c', 'e', 'f']))
 
     def test_fresh_names(self):
         self.assertEqual([counted_name(number) for number in (0, 25, 26, 27, 701, 702)], ['a', 'z', 'aa', 'ab', 'zz', 'aaa'])

@@ -1,7 +1,8 @@
 import unittest
 
 from contraryrolls.words import (
-    are_ascending_names, are_unlike_names, is_between, is_integer, is_name, is_roll, number_in, powers)
+    are_ascending_names, are_unlike_names, is_between, is_integer, is_name, is_roll, number_in, number_of, placed, powers,
+    without)
 from tests.kinds import values
 
 
@@ -46,6 +47,16 @@ class Words(unittest.TestCase):
 
     def test_powers(self):
         self.assertEqual([powers(2, 0), powers(3, 4), powers(60, 2)], [[1], [1, 3, 9, 27, 81], [1, 60, 3600]])
+
+    def test_numbers_of_figures(self):
+        self.assertEqual([number_of((), 7), number_of((3,), 7), number_of([1, 0, 6], 7), number_of((1, 59), 60)], [0, 3, 55, 119])
+
+    def test_one_name_more_or_less(self):
+        for names in [(), ('b',), ('b', 'd', 'f'), ('a', 'aa', 'ab', 'b', 'zz')]:
+            for name in ('a', 'b', 'ac', 'c', 'e', 'g', 'zzz'):
+                if name not in names:
+                    self.assertEqual(placed(names, name), tuple(sorted(names + (name,))))
+                    self.assertEqual(without(placed(names, name), name), names)
 
 
 if __name__ == '__main__':
