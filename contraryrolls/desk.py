@@ -81,13 +81,13 @@ class Desk:
     def _go_to(self, stand):
         """Undo deeds, or do them again, until so many stand."""
         while self._stand < stand:
-            _, name, _, thing = self._done[self._stand]
+            done = self._done[self._stand]
             self._stand += 1
-            self._keep(name, thing)
+            self._keep(done[1], done[3])
         while self._stand > stand:
             self._stand -= 1
-            _, name, thing, _ = self._done[self._stand]
-            self._keep(name, thing)
+            done = self._done[self._stand]
+            self._keep(done[1], done[2])
 
     def _keep(self, name, thing):
         """This name is now that of this thing, or of none."""
