@@ -207,19 +207,21 @@ def read_desk(text):
     noted = note_lines(lines)
     desk = Desk()
     many = lead_lines(desk, lines, 1 + len(noted))
-    for line, number in enumerate([stand, *[number for _, number in noted]], start=1):
+    numbers = [stand, *[told[1] for told in noted]]
+    for line, number in enumerate(numbers, start=1):
         if number > many:
             raise BadDesk(line)
     # Words note how many deeds stand, so the desk goes to where so many do, by ascending numbers.
-    for number, word in sorted([(number, word) for word, number in noted]):
-        many = go_to(desk, many, number)
+    standing = many
+    for number, word in sorted([(told[1], told[0]) for told in noted]):
+        standing = go_to(desk, standing, number)
         desk.note(word)
-    go_to(desk, many, stand)
+    go_to(desk, standing, stand)
     return desk
 
 
 def go_to(desk, many, stand):
-    """Undo deeds, or do them again, so that not many of them stand, but so many; return this number."""
+    """Go from where many deeds stand to where stand of them do, which is returned."""
     for _ in range(many - stand):
         desk.undo()
     for _ in range(stand - many):
